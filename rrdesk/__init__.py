@@ -1,0 +1,1 @@
+"""Rrdesk: a desk that gives turns."""
