@@ -1,12 +1,17 @@
 """The package's files: what of ../shared/LANGUAGE.md can be counted."""
 
 import ast
+import builtins
 import os
 import unittest
 import warnings
 
 ROOT = os.path.dirname(os.path.dirname(os.path.abspath(__file__)))
 FOLDER = os.path.join(ROOT, "rrdesk")
+# Of rule L8, what does neither read, write nor ask for the time or chance.
+BUILTINS = """len range enumerate zip min max sum abs sorted reversed int str
+bool list tuple dict set isinstance ord repr any all divmod ValueError
+KeyError IndexError""".split()
 
 
 def file_names():
@@ -53,6 +58,13 @@ class TestPackage(unittest.TestCase):
                     if isinstance(node, ast.ImportFrom):
                         self.assertEqual(node.level, 0)
                         self.assertEqual(node.module.split(".")[0], "rrdesk")
+
+    def test_no_other_builtin_is_used(self):
+        for name in file_names():
+            for node in ast.walk(ast.parse(source(name))):
+                if isinstance(node, ast.Name) and hasattr(builtins, node.id):
+                    with self.subTest(name=name):
+                        self.assertIn(node.id, BUILTINS)
 
     def test_python_gives_no_warning(self):
         for name in file_names():
